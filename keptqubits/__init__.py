@@ -1,0 +1,1 @@
+"""Keptqubits: stored quantum bits that come back."""
