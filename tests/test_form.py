@@ -21,6 +21,12 @@ BUILTINS = set("""len range enumerate zip min max sum abs sorted reversed int st
     isinstance ord repr any all divmod getattr hasattr setattr map iter next super property staticmethod classmethod
     ValueError TypeError KeyError IndexError LookupError ZeroDivisionError""".split())
 METHODS = set("__init__ __eq__ __repr__ __str__ __len__ __enter__ __exit__ __call__ __iter__".split())
+BUILTIN_METHODS = set("""append clear copy count endswith extend find get index insert isalnum isalpha isdigit islower
+    isspace isupper items join keys ljust lower lstrip partition pop remove replace reverse rfind rjust rpartition
+    rsplit rstrip setdefault split splitlines startswith strip update upper values zfill bit_length translate
+    add discard""".split())
+LAZY = set("range zip enumerate reversed items keys values product combinations permutations chain map".split())
+TAKERS = set("list tuple dict sorted sum any all enumerate zip bytes reversed len min max".split())
 WORDS = ("type typing typing_extensions enum Enum IntEnum StrEnum Flag IntFlag Generic Protocol ABC ABCMeta "
          "namedtuple NamedTuple TypedDict TYPE_CHECKING abstractmethod").split()
 NAMES = set("register mro elements open input law version_info with_traceback add_note".split())
@@ -44,6 +50,17 @@ def bound_names(path):
             yield node.arg, True
         elif isinstance(node, ast.Attribute):
             yield node.attr, False
+
+
+def defined_names(path):
+    """The functions, classes and values that a file defines at its top."""
+    found = set()
+    for row in tree_of(path).body:
+        if isinstance(row, ast.Assign):
+            found |= {target.id for target in row.targets}
+        elif isinstance(row, (ast.FunctionDef, ast.ClassDef)):
+            found.add(row.name)
+    return found
 
 
 class FormTest(unittest.TestCase):
@@ -78,8 +95,7 @@ class FormTest(unittest.TestCase):
                 else:
                     package, _, module = node.module.partition(".")
                     self.assertEqual(package, "keptqubits")
-                    defined = {row.name for row in tree_of(PACKAGE / f"{module}.py").body if hasattr(row, "name")}
-                    self.assertLessEqual(names, defined)
+                    self.assertLessEqual(names, defined_names(PACKAGE / f"{module}.py"))
 
     def test_no_two_files_import_each_other(self):
         sources = {path.stem: {node.module.partition(".")[2] for node in nodes_of(path, ast.ImportFrom)}
@@ -117,6 +133,41 @@ class FormTest(unittest.TestCase):
             for node in nodes_of(path, ast.BinOp):
                 if isinstance(node.op, ast.Pow):
                     self.assertIsInstance(node.right, ast.Constant)
+
+    def test_imports_are_used(self):
+        for path in FILES:
+            used = {node.id for node in nodes_of(path, ast.Name)}
+            for node in nodes_of(path, ast.ImportFrom):
+                for alias in node.names:
+                    self.assertIn(alias.name, used, path.name)
+
+    def test_methods_that_are_called(self):
+        own = {node.name for path in FILES for node in nodes_of(path, ast.FunctionDef)}
+        for path in FILES:
+            for node in nodes_of(path, ast.Call):
+                if isinstance(node.func, ast.Attribute):
+                    self.assertIn(node.func.attr, own | BUILTIN_METHODS)
+
+    def test_ranges_and_views_are_iterated_at_once(self):
+        for path in FILES:
+            at_once = set()
+            for node in nodes_of(path, ast.For, ast.comprehension):
+                at_once.add(ast.dump(node.iter, include_attributes=True))
+            for node in nodes_of(path, ast.Call):
+                if isinstance(node.func, ast.Name) and node.func.id in TAKERS:
+                    at_once |= {ast.dump(given, include_attributes=True) for given in node.args[:1]}
+            for node in nodes_of(path, ast.Call):
+                name = node.func.id if isinstance(node.func, ast.Name) else getattr(node.func, "attr", None)
+                if name in LAZY:
+                    self.assertIn(ast.dump(node, include_attributes=True), at_once, f"{path.name}:{node.lineno}")
+
+    def test_sets_are_not_iterated(self):
+        for path in FILES:
+            loops = nodes_of(path, ast.For, ast.comprehension)
+            for node in loops:
+                self.assertNotIsInstance(node.iter, (ast.Set, ast.SetComp))
+                if isinstance(node.iter, ast.Call) and isinstance(node.iter.func, ast.Name):
+                    self.assertNotIn(node.iter.func.id, ("set", "frozenset"))
 
     def test_names(self):
         for path in FILES:
