@@ -3,15 +3,15 @@
 from math import gcd
 
 from keptqubits.errors import BadNumber
-from keptqubits.kinds import is_integer
+from keptqubits.kinds import is_integer, is_number
 
 
 def ratio_of(number):
     """The number as a ratio."""
+    if not is_number(number):
+        raise BadNumber("ratio", number)
     if is_integer(number):
         return _lowest(number, 1)
-    if not _is_pair(number):
-        raise BadNumber("ratio", number)
     top, bottom = number
     return _lowest(top, bottom)
 
@@ -51,14 +51,6 @@ def is_less(one, other):
     top, bottom = ratio_of(one)
     other_top, other_bottom = ratio_of(other)
     return top * other_bottom < other_top * bottom
-
-
-def _is_pair(value):
-    """Whether a value is a tuple of two integers, the second one above 0."""
-    if not isinstance(value, tuple) or len(value) != 2:
-        return False
-    top, bottom = value
-    return is_integer(top) and is_integer(bottom) and bottom > 0
 
 
 def _lowest(top, bottom):

@@ -231,10 +231,10 @@ class ErrorsTest(unittest.TestCase):
             for behind in ("", "XII", "iZII", "Z", "iX XII"):
                 rest = strings(behind)
                 self.assertEqual(refused(self, Unlike, Code, 3, group, good + strings("iX") + rest, hidden).what, "size")
-                wrong = Pauli("iXII")
-                error = refused(self, BadNumber, Code, 3, group, good + [wrong] + rest, hidden)
-                self.assertEqual(error.what, "sign")
-                self.assertIs(error.number, wrong)
+                for wrong in strings("iXII -iZII -iXXI iIII"):
+                    error = refused(self, BadNumber, Code, 3, group, good + [wrong] + rest, hidden)
+                    self.assertEqual(error.what, "sign")
+                    self.assertIs(error.number, wrong)
                 error = refused(self, BadGauge, Code, 3, group, good + strings("XII") + rest, hidden)
                 self.assertEqual(error.index, ahead)
 

@@ -14,7 +14,8 @@ from keptqubits.groups import Group
 from keptqubits.rings import Ring, ring_code, ring_kept, ring_parts
 
 # irreducible, with their orders; the first one has the order 1, since it divides x + 1
-FACTORS = {"11": 1, "111": 3, "1101": 7, "1011": 7, "11001": 15, "10011": 15, "11111": 5, "1100000001": 73}
+FACTORS = {"11": 1, "111": 3, "1101": 7, "1011": 7, "11001": 15, "10011": 15, "11111": 5, "1001001": 9, "1110101": 21,
+           "1100001": 63, "110001110101": 23, "1100000001": 73}
 
 # values that are no texts of polynomials, with the column, or (0, 0)
 NO_POLYNOMIALS = [(None, (0, 0)), (1, (0, 0)), (True, (0, 0)), (b"1", (0, 0)), (["1"], (0, 0)), (("1",), (0, 0)),
