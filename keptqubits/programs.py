@@ -1,0 +1,28 @@
+"""Programs: gates, losses, measured strings, and strings that are put on by what bits tell."""
+
+from keptqubits.errors import BadNumber, BadText
+from keptqubits.kinds import is_integer
+from keptqubits.programlines import Reader, lines_of_text
+
+
+class Program:
+    """A program, told by a text; lines are all its lines but those of tables."""
+
+    def __init__(self, size, text):
+        if not is_integer(size) or size < 1:
+            raise BadNumber("size", size)
+        if not isinstance(text, str):
+            raise BadText(0, 0)
+        told = Reader(size)
+        rows = lines_of_text(text)
+        for number, row in enumerate(rows, start=1):
+            told.take(number, row.split(" "))
+        if told.is_open():
+            raise BadText(len(rows) + 1, 1)
+        self.size = size
+        self.text = text
+        self.lines = tuple(told.lines)
+        self.bits = tuple(told.bits)
+        kinds = [line.kind for line in self.lines]
+        self.flagged = "flag" in kinds
+        self.steered = "if" in kinds or "look" in kinds
