@@ -74,7 +74,7 @@ def least_loss(code, program, table, most):
     check_many("most", most)
     mending = Mending(code, table)
     for number in range(most + 1):
-        link = _lost_from(told, mending, number, [(told.state_of(0), 0, (None, None, 0, 0))])
+        link = _lost_from(told, mending, number, [told.start(0, 0, (None, None, 0, 0))])
         if link is not None:
             _, faults, bits = round_of(told.track, link)
             return Loss(number, faults_from(faults), bits)
@@ -89,7 +89,7 @@ def spite(code, program, table, t):
     for number in range(t + 1):
         starts = []
         for mark, (weight, letters) in _lightest_marks(code, number).items():
-            starts.append((told.state_of(mark), weight, (None, None, letters, 0)))
+            starts.append(told.start(mark, weight, (None, None, letters, 0)))
         link = _lost_from(told, mending, number, starts)
         if link is not None:
             (_, _, letters, _), faults, _ = round_of(told.track, link)
@@ -102,7 +102,7 @@ def greatest_left(code, program, t):
     told = checked_round(code, program)
     check_many("t", t)
     search = Search(told.track, t)
-    ends = search.reach([(told.state_of(0), 0, (None, None, 0, 0))])
+    ends = search.reach([told.start(0, 0, (None, None, 0, 0))])
     marks = {told.left_in(node, state): True for node, state, _, _ in ends}
     if None in marks:
         return None

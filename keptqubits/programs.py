@@ -6,7 +6,7 @@ from keptqubits.programlines import Reader, lines_of_text
 
 
 class Program:
-    """A program, told by a text; lines are all its lines but those of tables."""
+    """A program, told by a text; lines are all its lines but those of tables, tabled tells whether it has these."""
 
     def __init__(self, size, text):
         if not is_integer(size) or size < 1:
@@ -22,6 +22,7 @@ class Program:
         self.size = size
         self.text = text
         self.lines = tuple(told.lines)
+        self.tabled = bool(told.tables)
         self.bits = tuple(told.bits)
         kinds = [line.kind for line in self.lines]
         self.flagged = "flag" in kinds

@@ -30,13 +30,13 @@ class Search:
         return True
 
     def reach(self, starts):
-        """What is met from starts, triples (state, cost, link), and was not met before with so few faults.
+        """What is met from starts, tuples (node, state, cost, link), and was not met before with so few faults.
 
-        These are tuples (node, state, cost, link), where the node stands behind the last line.
+        It is told in the same form, with nodes that stand behind the last line.
         """
         waiting = [{} for _ in range(self.track.length + 1)]
-        for state, cost, link in starts:
-            self._meet(waiting, self.track.first, state, (cost, link))
+        for node, state, cost, link in starts:
+            self._meet(waiting, node, state, (cost, link))
         for line in range(self.track.length):
             for node, met in list(waiting[line].items()):
                 self._pass(waiting, node, met)
@@ -105,6 +105,13 @@ def round_of(track, link):
         link = earlier
         earlier, node, change, state = link
     return link, tuple(list(reversed(faults))), bit_tuple(told, track.many)
+
+
+def beginning(link):
+    """The link with which the last round of a link began."""
+    while link[1] is not None:
+        link = link[0]
+    return link
 
 
 def _fault_of(track, node, line, change):

@@ -29,6 +29,10 @@ class Round:
         """The state in which a run begins with a class."""
         return mark << self.track.many
 
+    def start(self, mark, cost, link):
+        """A class as a start of a search."""
+        return self.track.first, self.state_of(mark), cost, link
+
     def left_in(self, node, state):
         """The mark of the class that is left in a state behind the last line; None where there is none."""
         if node not in self.told:
