@@ -26,7 +26,7 @@ class Left:
     """What a run with some bits leaves; syndrome and hidden are None if the start is ruined."""
 
     def __init__(self, bits, syndrome, hidden):
-        self.bits = bits
+        self.bits = tuple(bits)
         self.syndrome = syndrome
         self.hidden = hidden
 
@@ -51,7 +51,7 @@ class Spite:
 def faults_of(program):
     """All faults that may happen, by lines, then by strings in order, first without a flip."""
     found = []
-    for line in program.lines:
+    for line in program.steps:
         flips = (False, True) if line.kind == "measure" else (False,)
         for letters in _letters_at(program.size, fault_places(line)):
             string = string_from(letters, 0)
@@ -140,13 +140,13 @@ def _letters_at(size, places):
 
 def _changes(program, faults):
     """The pairs (line, fault) of some faults, lines counted from 0 without those of tables."""
-    lines = {line.number: index for index, line in enumerate(program.lines)}
+    lines = {line.number: index for index, line in enumerate(program.steps)}
     found = []
     seen = []
     for k, fault in enumerate(faults):
         if fault.line not in lines or fault.line in seen:
             raise BadNumber("fault", k)
-        if not _may_happen(program, program.lines[lines[fault.line]], fault):
+        if not _may_happen(program, program.steps[lines[fault.line]], fault):
             raise BadNumber("fault", k)
         seen.append(fault.line)
         found.append((lines[fault.line], fault))

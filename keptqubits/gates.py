@@ -3,8 +3,8 @@
 from keptqubits.bitnumbers import reduced_numbers, relations, rest_by
 from keptqubits.errors import BadNumber, TooMany, Unlike
 from keptqubits.gateworks import GATES, gate_done
-from keptqubits.stringbits import (bit_tuple, bits_of, crossing, held_of, held_product, letters_of, second_half,
-                                   single_bits, string_from, string_of)
+from keptqubits.stringbits import (bit_tuple, bits_of, crossing, held_of, held_product, letters_of, single_bits,
+                                   string_from, string_of)
 
 # the turns in their order, and what each one makes of the letters I, X, Y and Z
 TURNS = ("", "h", "s", "hs", "sh", "shs")
@@ -119,7 +119,7 @@ def spread(program):
     _check_gates(program)
     size = program.size
     best = None
-    for line in range(len(program.lines) + 1):
+    for line in range(len(program.steps) + 1):
         # the strings in order: the last place comes first
         for place in reversed(range(size)):
             for letter in "XYZ":
@@ -132,7 +132,7 @@ def spread(program):
 
 
 def _check_gates(program):
-    if program.tabled or [line for line in program.lines if line.kind not in GATES and line.kind != "wait"]:
+    if program.tabled or [line for line in program.steps if line.kind not in GATES and line.kind != "wait"]:
         raise Unlike("gates")
 
 
@@ -144,7 +144,7 @@ def _check_program(code, program):
 
 def _image(program, start, held):
     """What the lines from a start on make of a held string."""
-    for line in program.lines[start:]:
+    for line in program.steps[start:]:
         if line.kind in GATES:
             held = gate_done(program.size, line.kind, line.places, held)
     return held
@@ -192,7 +192,7 @@ def _standard(code, row):
 
 
 def _stored(told):
-    """An action as held strings of the kept bits: what X and Z at the first one become, at the second one, and so on."""
+    """An action as held strings of the kept bits: what X and Z at the first one become, then at the second one."""
     kept = len(told.signs) // 2
     found = []
     for row, sign in zip(told.matrix, told.signs):

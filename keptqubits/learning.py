@@ -15,7 +15,7 @@ def told_strings(code, program):
     """
     size = program.size
     clues = [((name,), (name,), (0, 0)) for name in program.bits]
-    for line in reversed(program.lines):
+    for line in reversed(program.steps):
         clues = _ahead_of(size, line, clues)
     # nothing is known of the places from the code's size on
     for place in range(code.size, size):

@@ -40,7 +40,7 @@ class Reader:
         self.size = size
         self.tables = {}
         self.table = None
-        self.lines = []
+        self.steps = []
         self.bits = []
         self.in_flag = False
 
@@ -74,7 +74,7 @@ class Reader:
             return False
         if self._needs_row() and kind != "row":
             return False
-        if kind in ("table", "row") and self.lines:
+        if kind in ("table", "row") and self.steps:
             return False
         if kind == "row":
             return self.table is not None
@@ -145,7 +145,7 @@ class Reader:
             table = self.tables[told[0][1]]
             rows = tuple([(bits, table[bits]) for bits in table])
         line = Line(number, kind, told, rows)
-        self.lines.append(line)
+        self.steps.append(line)
         if line.bit is not None:
             self.bits.append(line.bit)
         if kind in ("flag", "end"):

@@ -6,7 +6,7 @@ from keptqubits.programlines import Reader, lines_of_text
 
 
 class Program:
-    """A program, told by a text; lines are all its lines but those of tables, tabled tells whether it has these."""
+    """A program, told by a text; steps are all its lines but those of tables, tabled tells whether it has these."""
 
     def __init__(self, size, text):
         if not is_integer(size) or size < 1:
@@ -21,9 +21,9 @@ class Program:
             raise BadText(len(rows) + 1, 1)
         self.size = size
         self.text = text
-        self.lines = tuple(told.lines)
+        self.steps = tuple(told.steps)
         self.tabled = bool(told.tables)
         self.bits = tuple(told.bits)
-        kinds = [line.kind for line in self.lines]
+        kinds = [line.kind for line in self.steps]
         self.flagged = "flag" in kinds
         self.steered = "if" in kinds or "look" in kinds

@@ -182,7 +182,7 @@ def _two_histories(told, link, t):
     other = []
     bits = []
     mark = other_mark = 0
-    lines = {line.number: index for index, line in enumerate(told.program.lines)}
+    lines = {line.number: index for index, line in enumerate(told.program.steps)}
     for _, faults, _ in _all_rounds([told], link):
         one.append(faults[:t])
         other.append(faults[t:])

@@ -13,7 +13,7 @@ class Run:
     """A row of bits that can come, how many coins fell, and the standing behind it."""
 
     def __init__(self, bits, halves, group):
-        self.bits = bits
+        self.bits = tuple(bits)
         self.halves = halves
         self.group = group
 
@@ -22,7 +22,7 @@ class Difference:
     """A row of bits for which two programs do not do the same."""
 
     def __init__(self, bits):
-        self.bits = bits
+        self.bits = tuple(bits)
 
 
 def runs(program, group):
@@ -58,7 +58,7 @@ def learnt(code, program):
         raise Unlike("size")
     if program.flagged:
         raise HasFlag()
-    if "look" in [line.kind for line in program.lines]:
+    if "look" in [line.kind for line in program.steps]:
         raise HasLook()
     table = list(code.gauge_table)
     found = []

@@ -98,7 +98,7 @@ def round_of(track, link):
     told = 0
     earlier, node, change, state = link
     while node is not None:
-        line = track.program.lines[node.line]
+        line = track.program.steps[node.line]
         if change:
             faults.append(_fault_of(track, node, line, change))
         told = told | (state & track.move_of(node).told)
@@ -127,7 +127,7 @@ def _dead_bits(track):
     """For each line, and behind the last one, the bits that are not read from there on."""
     dead = (1 << track.many) - 1
     found = [dead]
-    for line in reversed(track.program.lines):
+    for line in reversed(track.program.steps):
         for name in line.reads:
             dead = dead & ~track.bit_of(name)
         found.append(dead)

@@ -39,7 +39,7 @@ class Move:
         self.always = 0
         # what is put on if an odd number of these bits are 1, or if the bits looked at are one of the chosen
         self.odd = 0
-        self.put = 0
+        self.change = 0
         self.looked = 0
         self.chosen = {}
         # for each new slot a triple (bit, slots, sign); and the bits that stay
@@ -66,10 +66,10 @@ class Track:
         self.program = program
         self.size = size
         self.many = len(program.bits)
-        self.length = len(program.lines)
+        self.length = len(program.steps)
         self.nodes = {}
         self.first = self._node(0, rows)
-        self.ends = _ends_of_flags(program.lines)
+        self.ends = _ends_of_flags(program.steps)
 
     def bit_of(self, name):
         """The bit of a state that a bit of the program is told by."""
@@ -78,7 +78,7 @@ class Track:
     def move_of(self, node):
         """What the line of a node does."""
         if node.move is None:
-            line = self.program.lines[node.line]
+            line = self.program.steps[node.line]
             move = self._made_move(line, node.rows)
             move.after = self._node(node.line + 1, move.rows)
             if line.kind == "flag":
@@ -90,7 +90,7 @@ class Track:
     def effects_of(self, node):
         """What faults behind the line of a node do."""
         if node.effects is None:
-            line = self.program.lines[node.line]
+            line = self.program.steps[node.line]
             move = self.move_of(node)
             singles = single_bits(self.size, fault_places(line))
             changes = [self._slots(crossed_slots(self.size, bits, move.rows)) for bits in singles]
@@ -132,9 +132,9 @@ class Track:
         if kind == "if":
             for name in line.reads:
                 move.odd = move.odd ^ self.bit_of(name)
-            move.put = self._crossed(line.string, rows)
+            move.change = self._crossed(line.string, rows)
         elif kind == "look":
-            self._look(move, line)
+            self._looked_at(move, line)
         return move
 
     def _turned(self, move, crossed):
@@ -170,7 +170,7 @@ class Track:
             move.always = sign
         return move
 
-    def _look(self, move, line):
+    def _looked_at(self, move, line):
         for name in line.reads:
             move.looked = move.looked | self.bit_of(name)
         for word, string in line.rows:
@@ -221,7 +221,7 @@ def outs_of(move, state):
     if move.told:
         return [state | move.told if parity(state & move.asked) != move.always else state]
     if move.odd and parity(state & move.odd):
-        return [state ^ move.put]
+        return [state ^ move.change]
     if move.looked:
         return [state ^ move.chosen.get(state & move.looked, 0)]
     if move.remade is not None:

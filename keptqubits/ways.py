@@ -21,7 +21,7 @@ class Looked:
     """The hidden bits of a measured string that looks at something stored."""
 
     def __init__(self, bits):
-        self.bits = bits
+        self.bits = tuple(bits)
 
 
 class Along:
@@ -38,7 +38,7 @@ class Stopped:
 
     def __init__(self, number, bits):
         self.number = number
-        self.bits = bits
+        self.bits = tuple(bits)
 
 
 class Way:
