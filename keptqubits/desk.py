@@ -1,6 +1,6 @@
 """A desk for codes, sorts, tables and programs, with promises about them that each edit keeps."""
 
-from keptqubits.deskfiles import cut_file, file_text, lines_of_file, named_piece, read_all
+from keptqubits.deskfiles import KINDS, cut_file, file_text, lines_of_file, named_piece, read_all
 from keptqubits.errors import (BadName, BadNumber, BadText, NoName, NothingToRedo, NothingToUndo, NotKept, TakenName)
 from keptqubits.kinds import is_integer
 from keptqubits.names import is_name
@@ -53,7 +53,7 @@ class Desk:
         _check_string(name)
         _check_text(text)
         content = self.state.content
-        piece = named_piece(content.pieces, name, (_kind_of(content.pieces, name),))
+        piece = named_piece(content.pieces, name, KINDS)
         if not is_integer(number) or not 1 <= number <= len(piece.body) + 1:
             raise BadNumber("line", number)
         body = [*piece.body[:number - 1], *lines_of_file(text), *piece.body[number:]]
@@ -64,11 +64,11 @@ class Desk:
         """Take an item away, and the promises about it."""
         _check_string(name)
         content = self.state.content
-        if _kind_of(content.pieces, name) == "code":
-            tables = _tables_of(content.pieces, [name])
-            if tables:
-                raise TakenName(tables[0].name)
-        pieces = [piece for piece in content.pieces if piece.name != name]
+        gone = named_piece(content.pieces, name, KINDS)
+        tables = _tables_of(content.pieces, [name])
+        if tables:
+            raise TakenName(tables[0].name)
+        pieces = [piece for piece in content.pieces if piece.name != gone.name]
         self._edited(Content(pieces, [vow for vow in content.vows if not Promise(vow).has_name(name)]))
 
     def rename(self, name, new):
@@ -77,15 +77,15 @@ class Desk:
             raise BadName(new)
         _check_string(name)
         content = self.state.content
-        kind = _kind_of(content.pieces, name)
+        called = named_piece(content.pieces, name, KINDS)
         if new in self.names():
             raise TakenName(new)
-        tables = _tables_of(content.pieces, [name]) if kind == "code" else []
+        tables = [table.name for table in _tables_of(content.pieces, [name])]
         pieces = []
         for piece in content.pieces:
-            if piece.name == name:
+            if piece.name == called.name:
                 piece = piece.renamed(new, piece.last)
-            elif piece.name in [table.name for table in tables]:
+            elif piece.name in tables:
                 piece = piece.renamed(piece.name, new)
             pieces.append(piece)
         self._edited(Content(pieces, [Promise(vow).renamed(name, new) for vow in content.vows]))
@@ -222,14 +222,6 @@ def _check_vows(content):
         witness = witness_of(Promise(vow), content.pieces)
         if witness is not None:
             raise NotKept(vow, witness)
-
-
-def _kind_of(pieces, name):
-    """The kind of the item with a name."""
-    for piece in pieces:
-        if piece.name == name:
-            return piece.kind
-    raise NoName(name)
 
 
 def _tables_of(pieces, names):

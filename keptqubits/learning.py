@@ -5,7 +5,7 @@ program, it is the sum of the odd bits that are told ahead of it, plus 1 if the 
 """
 
 from keptqubits.gateworks import GATES, gate_done
-from keptqubits.stringbits import bits_of, crossing, held_of, held_product, single_bits
+from keptqubits.stringbits import bits_of, crossing, held_of, held_product, second_half, single_bits
 
 
 def told_strings(code, program):
@@ -97,4 +97,4 @@ def _narrowed(size, narrower, held):
     """A held string without its places from a size on, where it has I."""
     bits, power = held
     more = size - narrower
-    return ((bits >> (size + more)) << narrower) | ((bits & ((1 << size) - 1)) >> more), power
+    return ((bits >> (size + more)) << narrower) | (second_half(size, bits) >> more), power

@@ -138,11 +138,10 @@ class Track:
         return move
 
     def _turned(self, move, crossed):
-        """Free a slot for strings that must not be crossed; the slot as a bit of states, or 0."""
+        """Free a slot so that no string is left that must not be crossed."""
         move.rows, slot, mask = freed(self.size, move.rows, crossed)
         if slot:
             move.turns.append((self._slots(slot), self._slots(mask)))
-        return self._slots(slot)
 
     def _lost(self, line, rows):
         move = Move(rows)
@@ -195,7 +194,7 @@ class Track:
 
 def fault_places(line):
     """The places at which faults happen behind a line."""
-    if line.kind in ("lost", "flag", "end"):
+    if line.kind == "lost":
         return []
     strings = [string for _, string in line.rows]
     if line.string is not None:

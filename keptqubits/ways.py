@@ -137,9 +137,9 @@ def _code_behind(code, string, frame):
     """The code behind a measured string of the gauge, or one that is outside; the frame anticommutes with it."""
     size = code.size
     bits = bits_of(string)
-    partner = frame if code.kind_of(string) == "outside" else None
-    rows = [string, *_commuting(code.group.rows, string, partner)]
-    hidden = [_commuting(pair, string, partner) for pair in code.hidden]
+    # where the frame is no string of the group, all of these commute with the string
+    rows = [string, *_commuting(code.group.rows, string, frame)]
+    hidden = [_commuting(pair, string, frame) for pair in code.hidden]
     # of the old gauge what commutes with the string, as far as it is not of the new group
     table = reduced_numbers([bits_of(row) for row in rows])
     gauge = []
@@ -151,11 +151,11 @@ def _code_behind(code, string, frame):
     return Code(size, rows, gauge, hidden)
 
 
-def _commuting(strings, string, partner):
-    """The strings, each one that anticommutes with a string times its partner; I is left out."""
+def _commuting(strings, string, frame):
+    """The strings, each one that anticommutes with a string times the frame; I is left out."""
     found = []
     for row in strings:
-        told = row if row.commutes(string) else row.times(partner)
+        told = row if row.commutes(string) else row.times(frame)
         if told.weight:
             found.append(told)
     return found

@@ -119,6 +119,11 @@ class FileTest(DeskTest):
         self.wrong(ALL + "item sort flips 3", 17, 3)
         self.wrong("item code a 1\nitem table a a", 2, 3)
 
+    def test_all_sizes(self):
+        for size in range(1, 25):
+            desk = Desk(f"item code c {size}\nitem sort s {size}\nitem program p {size}\nwait {size - 1}\n")
+            self.assertEqual((desk.get_code("c").size, desk.get_sort("s").size, desk.get_program("p").size), (size,) * 3)
+
     def test_lines_ahead_of_the_first_head_line(self):
         for line in ("string X", "", " item code a 1", "items code a 1", "weight 1", "Item code a 1"):
             self.wrong(line + "\nitem code A 1\n", 1, 1)
@@ -633,6 +638,22 @@ class AttemptTest(DeskTest):
         desk.trial(lambda held: held.drop("t"))
         desk.redo()
         self.assertEqual(told_of(desk), before)
+
+    def test_a_trial_that_is_called(self):
+        desk = self.desk("t mends one", "four distance 2")
+
+        def action(held):
+            refused(self, NothingToUndo, held.undo)
+            refused(self, NothingToRedo, held.redo)
+            held.edit("t", 1, "")
+            held.attempt(lambda again: again.edit("t", 1, ""))
+            return len(held.broken())
+
+        desk.undo()
+        self.assertEqual(desk.trial(action), 1)
+        self.assertEqual(desk.broken(), ())
+        desk.redo()
+        self.assertEqual(desk.promises(), ("t mends one", "four distance 2"))
 
     def raise_not_kept(self):
         raise NotKept("a", None)

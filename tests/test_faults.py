@@ -248,6 +248,24 @@ class LossTest(unittest.TestCase):
             self.assertGreater(fewest.count(number), 20)
         self.assertGreater(min(held.count(True), held.count(False)), 20)
 
+    def test_two_faults(self):
+        # codes that keep nothing, and tables that lack what one fault may not leave
+        source = seeded(54)
+        fewest = []
+        while len(fewest) < 60:
+            code = code_of(source.choice(("ZI IZ", "ZX XZ", "ZII IZI IIZ", "XX ZZ")))
+            size = code.size + source.choice((0, 0, 1))
+            text = RoundText(source, code, size, source.randint(2, 6), 3).text
+            faults = all_faults(size, text)
+            if not is_round(code, size, text) or len(faults) > 80:
+                continue
+            table = lightest(code)
+            del table[source.choice([syndrome for syndrome in table if 1 in syndrome])]
+            if not [rows for rows in fault_rows(size, text, 1) if loses(code, size, text, table, rows)] or not fewest:
+                fewest.append(self.check(code, size, text, table, 2))
+                self.check_spite(code, size, text, table, 2)
+        self.assertGreater(fewest.count(2), 10)
+
     def test_three_faults(self):
         # a code that keeps nothing, and a table that lacks what three faults leave
         code = code_of("ZIII IZII IIZI IIIZ")

@@ -92,6 +92,9 @@ class ImageTest(unittest.TestCase):
                 self.assertEqual(refused(self, Unlike, image_of, told, Pauli("XX")).what, what)
                 self.assertEqual(refused(self, Unlike, action, Code(2, strings("ZZ")), told).what, what)
                 self.assertEqual(refused(self, Unlike, closed_actions, Code(2, strings("ZZ")), [told]).what, what)
+                for code in (Code(2, []), Code(2, [], strings("XI ZI")), Code(2, strings("XX ZZ"))):
+                    self.assertEqual(refused(self, Unlike, action, code, told).what, what)
+                    self.assertEqual(refused(self, Unlike, closed_actions, code, [told]).what, what)
             self.assertEqual(refused(self, Unlike, spread, Program(2, text)).what, "gates")
         self.assertEqual(refused(self, Unlike, image_of, Program(3, ""), Pauli("iXX")).what, "size")
 

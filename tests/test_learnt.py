@@ -69,13 +69,14 @@ class LearntTest(unittest.TestCase):
     def test_random_programs(self):
         source = seeded(31)
         learned = {}
-        for _ in range(220):
+        for number in range(500):
             size = source.randint(1, 3)
             rank = source.randint(0, size)
             made = Made(source, size, rank, source.randint(0, min(1, size - rank)))
             code = Code(size, made.group, made.gauge)
             more = source.choice([0, 0, 1])
-            text = random_text(source, size + more, source.randint(1, 10), most_bits=4, flags=False, looks=False)
+            text = random_text(source, size + more, source.randint(1, 14), most_bits=4, flags=False, looks=False,
+                               losses=number % 2 == 0)
             many = self.check(code, Program(size + more, text))
             learned[many] = learned.get(many, 0) + 1
         self.assertGreater(learned[0], 30)
@@ -114,6 +115,21 @@ class LearntTest(unittest.TestCase):
         self.assertEqual(learnt(code, Program(2, "measure X0 to a")), ())
         (told, names), = learnt(code, Program(2, "measure X0*Z1 to a\nmeasure X0 to b"))
         self.assertIn((told.letters, names), (("XZ", ("a",)), ("IZ", ("a", "b"))))
+
+    def test_gates_and_signs(self):
+        code = Code(1, [])
+        for gates, letters in (("", "X"), ("s 0", "-Y"), ("s 0\ns 0", "-X"), ("s 0\ns 0\ns 0", "Y"), ("h 0", "Z"), ("z 0", "-X"),
+                               ("s 0\nh 0", "Z"), ("h 0\ns 0", "Y"), ("h 0\ns 0\nx 0", "Y"), ("h 0\ns 0\nz 0", "-Y")):
+            (told, names), = learnt(code, Program(1, f"{gates}\nmeasure X0 to a".strip()))
+            self.assertEqual(names, ("a",))
+            self.assertTrue(is_told(code, Program(1, f"{gates}\nmeasure X0 to a".strip()), told, names), gates)
+            self.assertEqual(told.letters, letters[-1])
+
+    def test_ifs_that_read_a_bit_twice(self):
+        code = Code(1, [])
+        for named, wanted in (("a + a", ("b",)), ("a", ("a", "b")), ("a + a + a", ("a", "b"))):
+            (told, names), = learnt(code, Program(2, f"measure X1 to a\nif {named} then X0\nmeasure Z0 to b"))
+            self.assertEqual((told, names), (Pauli("Z"), wanted))
 
     def test_helpers_tell_nothing(self):
         code = Code(1, [])

@@ -4,8 +4,9 @@ import itertools
 import unittest
 
 from plain import refused, seeded, string
-from roundtexts import SMALL_CODES, RoundText, class_of, code_of, fault_rows, is_mended, is_round, runs_with
-from runner import all_faults
+from roundtexts import (SMALL_CODES, RoundText, class_of, code_of, fault_rows, is_mended, is_round, measured_by_helper,
+                        runs_with)
+from runner import all_faults, word
 from keptqubits.codes import Code
 from keptqubits.errors import BadGauge, BadNumber, HasFlag, NotARound, Unlike
 from keptqubits.faults import Fault
@@ -249,6 +250,79 @@ class ForeverTest(unittest.TestCase):
         self.assertIsNone(greatest_t(code, Program(1, "x 0"), {}, 3))
 
 
+def z_text(source, size, many, flags=True):
+    """The text of a round of the code that keeps nothing and has Z at each place: gates that leave letters Z."""
+    rows, bits, in_flag = [], [], False
+    for _ in range(many):
+        kind = source.choice("cx cx swap fresh x wait measure measure if flag".split())
+        if kind in ("cx", "swap"):
+            rows.append("{} {} {}".format(kind, *source.sample(range(size), 2)))
+        elif kind in ("fresh", "x", "wait"):
+            rows.append(f"{kind} {source.randrange(size)}")
+        elif kind == "measure" and len(bits) < 2:
+            bits.append(f"b{len(bits)}")
+            letters = "".join(source.choice("IZ") for _ in range(size))
+            rows.append(f"measure {word(letters if 'Z' in letters else 'Z' * size)} to {bits[-1]}")
+        elif kind == "if" and bits:
+            rows.append(f"if {source.choice(bits)} then {source.choice(['X0', 'X1', 'X0*X1'])}")
+        elif kind == "flag" and flags and bits:
+            rows.append("end" if in_flag else f"flag {source.choice(bits)}")
+            in_flag = not in_flag
+    return "".join(row + "\n" for row in rows + ["end"] * in_flag)
+
+
+def z_rounds(seed, many, flags=True, most=40):
+    source = seeded(seed)
+    found = 0
+    while found < many:
+        size = source.choice((2, 2, 3))
+        code = code_of(" ".join("I" * k + "Z" + "I" * (size - k - 1) for k in range(size)))
+        text = z_text(source, size, source.randint(1, 6), flags)
+        if is_round(code, size, text) and len(all_faults(size, text)) <= most:
+            found += 1
+            yield source, code, size, text
+
+
+class PlainRoundsTest(ForeverTest):
+    """Codes that keep nothing: what is left adds up over many rounds."""
+
+    def test_random_rounds(self):
+        lengths = {}
+        for source, code, size, text in z_rounds(68, 150):
+            rounds, program = [Rounds(code, size, text)], Program(size, text)
+            table = {syndrome: told for syndrome, told in lightest(code).items() if source.random() < 0.85}
+            for t in range(3 if len(all_faults(size, text)) < 20 else 2):
+                for call, caps in ((forever, lambda used: t), (two_neighbors, lambda used: t - used)):
+                    wanted = histories(rounds, table, caps)
+                    self.check(call(code, program, table, t), wanted, rounds, table, caps)
+                    many = wanted if isinstance(wanted, int) else 0
+                    lengths[many] = lengths.get(many, 0) + 1
+        for many in (0, 1, 2, 3):
+            self.assertGreater(lengths.get(many, 0), 2, lengths)
+
+    def test_any_order(self):
+        for source, code, size, text in z_rounds(69, 40):
+            other = z_text(source, size, 3)
+            if not is_round(code, size, other) or len(all_faults(size, other)) > 40:
+                continue
+            table = {syndrome: told for syndrome, told in lightest(code).items() if source.random() < 0.85}
+            rounds = [Rounds(code, size, told) for told in (text, other)]
+            for t in range(2):
+                wanted = histories(rounds, table, lambda used: t)
+                told = any_order(code, [Program(size, text), Program(size, other)], table, t)
+                self.check(told, wanted, rounds, table, lambda used: t, True)
+
+    def test_faults_in_every_other_round(self):
+        code = code_of("ZI IZ")
+        table = lightest(code)
+        del table[(1, 1)]
+        rounds = [Rounds(code, 2, "wait 0\nwait 1\n")]
+        for call, many in ((forever, 2), (two_neighbors, 3)):
+            told = call(code, Program(2, rounds[0].text), table, 1)
+            self.assertEqual(len(told.rounds), many)
+        self.assertEqual([len(faults) for faults in told.rounds], [1, 0, 1])
+
+
 class ErrorsTest(unittest.TestCase):
     def test_shared_errors(self):
         gauged = Code(2, [], [Pauli("XI"), Pauli("ZI")])
@@ -341,6 +415,60 @@ class PairsTest(unittest.TestCase):
                 held.append(self.check(code, size, text, t))
         self.assertGreater(min(held.count(True), held.count(False)), 20, lengths)
 
+    def test_strings_that_are_measured_again(self):
+        # one bit may be flipped, or tell a letter that came; more bits for one string tell these apart
+        found = []
+        for words in ("ZZ", "-YX", "Z", "ZX XZ"):
+            code = code_of(words)
+            row = word(code.group.rows[0].letters, "-" if code.group.rows[0].phase else "")
+            helped = "\n".join(measured_by_helper(code.group.rows[0], code.size, "d"))
+            for ahead in ("", "wait 0\n", "measure X%d to z\nif z then X0\n" % code.size):
+                for behind in (f"measure {row} to a\n", f"measure {row} to a\nmeasure {row} to b\n",
+                               f"measure {row} to a\nwait 0\nmeasure {row} to b\nmeasure {row} to c\n", helped,
+                               f"measure {row} to a\n{helped}"):
+                    if len(all_faults(code.size + 1, ahead + behind)) < 140:
+                        found += [self.check(code, code.size + 1, ahead + behind, t) for t in (0, 1)]
+        self.assertGreater(min(found.count(True), found.count(False)), 10)
+
+    def test_coins_and_helpers(self):
+        source = seeded(67)
+        found = 0
+        while found < 40:
+            code = code_of(source.choice(("ZZ", "Z", "-YX", "ZX XZ", "XX")))
+            size = code.size + 1
+            text = RoundText(source, code, size, source.randint(2, 9), 4, flags=False).text
+            if is_round(code, size, text) and len(all_faults(size, text)) < 90:
+                found += 1
+                for t in (0, 1):
+                    self.check(code, size, text, t)
+
+    def test_what_adds_up_over_rounds(self):
+        many = set()
+        for _, code, size, text in z_rounds(70, 90, False, 45):
+            for t in (0, 1):
+                self.check(code, size, text, t)
+                many.add(len(forever_pairs(code, Program(size, text), t).differences))
+        self.assertGreater(len(many), 3)
+        code = code_of("ZII IZI IIZ")
+        twice = "".join(f"measure Z{k} to a{k}\nmeasure Z{k} to b{k}\n" for k in range(3))
+        for text, many in (("wait 0\nwait 1\nwait 2", 8), (twice, 7)):
+            self.assertTrue(self.check(code, 3, text, 1))
+            self.assertEqual(len(forever_pairs(code, Program(3, text), 1).differences), many)
+
+    def test_histories_of_two_rounds(self):
+        code = code_of("XZZXI IXZZX XIXZZ ZXIXZ")
+        for text in ("wait 0\nwait 1\nwait 2\n", "wait 0\nwait 1\nx 2\nwait 3\n", "wait 0\nmeasure Z5 to a\nif a then X3\nz 1\nwait 2"):
+            rounds = Rounds(code, 6, text)
+            told = forever_pairs(code, Program(6, text), 1)
+            self.assertIs(told.__class__, TwoHistories)
+            self.assertEqual((len(told.one), len(told.other), len(told.bits)), (2, 2, 2))
+            ends = []
+            for faults in (told.one, told.other):
+                self.assertTrue(all(len(row) <= 1 for row in faults))
+                ends.append(follow(self, [rounds], [(0, row) for row in faults], told.bits))
+            self.assertEqual(ends[0][0], ends[1][0])
+            self.assertNotEqual(ends[0][1], ends[1][1])
+
     def test_two_and_three_faults(self):
         for words in ("Z", "ZI IX", "-XX ZZ"):
             code = code_of(words)
@@ -399,6 +527,20 @@ class UnseenTest(unittest.TestCase):
             found[told] = found.get(told, 0) + 1
         for number in (None, 0, 1):
             self.assertGreater(found.get(number, 0), 3, found)
+
+    def test_rounds_of_plain_codes(self):
+        found = {}
+        for _, code, size, text in z_rounds(71, 120):
+            told = unseen(code, Program(size, text))
+            self.assertEqual(told, self.reckoned(code, size, text), text)
+            found[told] = found.get(told, 0) + 1
+        for number in (None, 0, 1, 2):
+            self.assertGreater(found.get(number, 0), 2, found)
+
+    def test_classes_that_only_rounds_lead_to(self):
+        code = code_of("ZIII IZII IIZI IIIZ")
+        for text in ("fresh 3\ncx 2 3\nswap 1 2\nfresh 1\ncx 0 1\nfresh 0", "fresh 3\ncx 2 3\nfresh 2\nswap 1 2\ncx 0 1\nfresh 0"):
+            self.assertEqual(unseen(code, Program(4, text)), self.reckoned(code, 4, text))
 
     def test_known_rounds(self):
         code = code_of("ZII IZI IIZ")

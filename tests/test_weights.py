@@ -9,6 +9,7 @@ from plain import (NO_SIZES, Made, all_letters, commute_with_all, group_list, mi
 from keptqubits.codes import Code
 from keptqubits.errors import BadNumber
 from keptqubits.groups import Group
+from keptqubits.linear import Nothing, greatest
 from keptqubits.tables import distance
 from keptqubits.weights import Forbidden, commuting_counts, counts, forbidden, shadow_counts, turned_counts
 
@@ -174,6 +175,19 @@ class ForbiddenTest(unittest.TestCase):
         self.assertEqual([greatest[size, 1] for size in range(1, 8)], [1, 1, 1, 2, 3, 3, 3])
         self.assertEqual([greatest[size, 2] for size in range(2, 8)], [1, 1, 2, 2, 2, 2])
         self.assertEqual((greatest[6, 4], greatest[5, 3], greatest[7, 3]), (2, 1, 2))
+
+    def test_all_that_fits(self):
+        # whether any ratios fulfill the rows, asked of greatest for the rows as the tests tell them
+        for size in range(1, 7):
+            for kept in range(1, size + 1):
+                for d in range(1, size + 1):
+                    rows, right = [], []
+                    for row, number, equal in rows_of(size, kept, d):
+                        for sign in (-1, 1) if equal else (-1,):
+                            rows.append([(sign * value.numerator, value.denominator) for value in row])
+                            right.append(sign * number)
+                    told = greatest(rows, right, [0] * (size + 1))
+                    self.assertEqual(forbidden(size, kept, d) is not None, told.__class__ is Nothing)
 
     def test_three_places(self):
         self.assertTrue(self.check(3, 1, 2))
