@@ -9,7 +9,7 @@ begins the node is None, and the change is whatever was told with it.
 
 from keptqubits.bitnumbers import combination, rest_by
 from keptqubits.stringbits import bit_tuple, letters_of, parity, single_bits, string_from
-from keptqubits.tracks import fault_places, next_of, outs_of
+from keptqubits.tracks import fault_places, next_of, outs_of, turned_state
 
 
 class Search:
@@ -75,9 +75,7 @@ class PairSearch(Search):
 
     def outs(self, move, state):
         """What a line makes of a difference; equal bits put on equal strings, and make no difference."""
-        for bit, mask in move.turns:
-            if state & bit:
-                state = state ^ mask
+        state = turned_state(move, state)
         if move.coin:
             return [state, state | move.coin]
         if move.told and parity(state & move.asked):

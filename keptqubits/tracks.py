@@ -210,11 +210,17 @@ def widened(bits, size, wider):
     return ((bits >> size) << (2 * wider - size)) | (second_half(size, bits) << (wider - size))
 
 
-def outs_of(move, state):
-    """The states that a line makes of one: two of them for a coin."""
+def turned_state(move, state):
+    """A state behind the turns of a line."""
     for bit, mask in move.turns:
         if state & bit:
             state = state ^ mask
+    return state
+
+
+def outs_of(move, state):
+    """The states that a line makes of one: two of them for a coin."""
+    state = turned_state(move, state)
     if move.coin:
         return [state, state | move.coin]
     if move.told:

@@ -4,9 +4,9 @@ import itertools
 import unittest
 
 from plain import refused, seeded, string
-from roundtexts import (SMALL_CODES, RoundText, class_of, code_of, fault_rows, is_mended, is_round, measured_by_helper,
-                        runs_with)
-from runner import all_faults, word
+from roundtexts import (SMALL_CODES, RoundText, class_left, class_of, code_of, fault_rows, is_mended, is_round,
+                        measured_by_helper, runs_with, start_of)
+from runner import all_faults, run_all, standing_of, word
 from keptqubits.codes import Code
 from keptqubits.errors import BadGauge, BadNumber, HasFlag, NotARound, Unlike
 from keptqubits.faults import Fault
@@ -468,6 +468,23 @@ class PairsTest(unittest.TestCase):
                 ends.append(follow(self, [rounds], [(0, row) for row in faults], told.bits))
             self.assertEqual(ends[0][0], ends[1][0])
             self.assertNotEqual(ends[0][1], ends[1][1])
+
+    def test_bits_of_the_second_round(self):
+        code = code_of("ZZIIIIIII IZZIIIIII IIIZZIIII IIIIZZIII IIIIIIZZI IIIIIIIZZ XXXXXXIII IIIXXXXXX")
+        text = "measure Z0*Z1 to a\nmeasure Z3*Z4 to b\nmeasure Z6*Z7 to c\nx 0\n"
+        told = forever_pairs(code, Program(9, text), 1)
+        self.assertEqual((told.__class__, len(told.bits)), (TwoHistories, 2))
+        ends = []
+        for faults in (told.one, told.other):
+            # without helpers, a round begins with what the one ahead of it has left
+            standing = standing_of(start_of(code, 9))
+            for row, bits in zip(faults, told.bits):
+                ended = run_all(9, text, standing, {line: (letters, flip) for line, letters, flip in plain_rows(row)})
+                standing, = [run.standing for run in ended if run.row(("a", "b", "c")) == bits]
+            ends.append(class_left(code, 9, standing))
+        self.assertEqual(ends[0][0], ends[1][0])
+        self.assertNotEqual(ends[0][1], ends[1][1])
+        self.assertEqual(told.bits[1][0], 1)
 
     def test_two_and_three_faults(self):
         for words in ("Z", "ZI IX", "-XX ZZ"):
