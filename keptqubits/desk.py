@@ -4,7 +4,7 @@ from keptqubits.deskfiles import KINDS, cut_file, file_text, lines_of_file, name
 from keptqubits.errors import (BadName, BadNumber, BadText, NoName, NothingToRedo, NothingToUndo, NotKept, TakenName)
 from keptqubits.kinds import is_integer
 from keptqubits.names import is_name
-from keptqubits.promises import Promise, witness_of
+from keptqubits.promises import Answers, Promise
 
 
 class Content:
@@ -42,6 +42,7 @@ class Desk:
     def __init__(self, text=""):
         self.state = State(Content(_put_in([], text), []), (), (), False)
         self.saved = None
+        self.answers = Answers()
 
     def put(self, text):
         """Put the items of a file in their places, or behind the last one."""
@@ -93,7 +94,7 @@ class Desk:
     def keep(self, promise):
         """Make a promise."""
         content = self.state.content
-        witness_of(Promise(promise), content.pieces)
+        self.answers.witness_of(promise, content.pieces)
         vows = content.vows if promise in content.vows else [*content.vows, promise]
         self._edited(Content(content.pieces, vows))
 
@@ -114,7 +115,7 @@ class Desk:
             told = action(self)
             content = self.state.content
             if not before.inside:
-                _check_vows(content)
+                self._check_vows(content)
             self.state = State(content, (*before.past, before.content), (), before.inside)
             done = True
         finally:
@@ -185,24 +186,31 @@ class Desk:
 
     def sound(self, promise):
         """Whether a promise is kept now, and a witness if it is not."""
-        witness = witness_of(Promise(promise), self.state.content.pieces)
+        witness = self.answers.witness_of(promise, self.state.content.pieces)
         return witness is None, witness
 
     def broken(self):
         """The promises that are not kept now, each with a witness."""
         content = self.state.content
-        found = [(vow, witness_of(Promise(vow), content.pieces)) for vow in content.vows]
+        found = [(vow, self.answers.witness_of(vow, content.pieces)) for vow in content.vows]
         return tuple([(vow, witness) for vow, witness in found if witness is not None])
 
     def _value(self, name, kind):
         _check_string(name)
         return named_piece(self.state.content.pieces, name, (kind,)).value
 
+    def _check_vows(self, content):
+        """Refuse what does not keep its promises."""
+        for vow in content.vows:
+            witness = self.answers.witness_of(vow, content.pieces)
+            if witness is not None:
+                raise NotKept(vow, witness)
+
     def _edited(self, content):
         """Hold what an edit has made, if its promises are kept."""
         state = self.state
         if not state.inside:
-            _check_vows(content)
+            self._check_vows(content)
         self.state = State(content, (*state.past, state.content), (), state.inside)
 
 
@@ -214,14 +222,6 @@ def _check_string(name):
 def _check_text(text):
     if not isinstance(text, str):
         raise BadText(0, 0)
-
-
-def _check_vows(content):
-    """Refuse what does not keep its promises."""
-    for vow in content.vows:
-        witness = witness_of(Promise(vow), content.pieces)
-        if witness is not None:
-            raise NotKept(vow, witness)
 
 
 def _tables_of(pieces, names):

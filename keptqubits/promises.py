@@ -12,6 +12,9 @@ from keptqubits.tables import distance, judged
 # numbers have at most nine digits
 LIMIT = 1000000000
 
+# so many answers are kept at most
+MOST_KNOWN = 1000
+
 # what the words behind the first two are, by the second one; lots have their own form
 FORMS = {
     "losses": ("number", "errors", "number"), "distance": ("number",), "mends": ("sort",),
@@ -74,22 +77,38 @@ class Promise:
             raise BadText(1, column)
 
 
-def witness_of(promise, pieces):
-    """None if the items keep a promise, otherwise its witness."""
-    held = promise.asked_of(pieces)
-    numbers = promise.numbers
-    if promise.what == "lot":
+class Answers:
+    """Which witnesses promises have, each of them asked but once for the same items."""
+
+    def __init__(self):
+        self.known = {}
+
+    def witness_of(self, text, pieces):
+        """None if the items keep a promise, otherwise its witness."""
+        promise = Promise(text)
+        held = promise.asked_of(pieces)
+        key = (promise.what, tuple(promise.numbers), *held)
+        if key not in self.known:
+            if len(self.known) >= MOST_KNOWN:
+                self.known = {}
+            self.known[key] = _witness(promise.what, promise.numbers, held)
+        return self.known[key]
+
+
+def _witness(what, numbers, held):
+    """The witness against what is promised of some items, or None."""
+    if what == "lot":
         told = mender(held[0], tuple(numbers))
         return told if isinstance(told, Inside) else None
-    if promise.what == "losses":
+    if what == "losses":
         return borne(held[0], numbers[0], numbers[1])
-    if promise.what == "distance":
+    if what == "distance":
         told = distance(held[0])
         return told if told.number < numbers[0] else None
     code, table = held[0].code, held[0].table
-    if promise.what == "mends":
+    if what == "mends":
         return judged(code, table, held[1])
-    if promise.what == "faults":
+    if what == "faults":
         return spite(code, held[1], table, numbers[0])
     told = forever(code, held[1], table, numbers[0])
     return None if isinstance(told, Forever) else told
