@@ -3,8 +3,8 @@
 from keptqubits.bitnumbers import reduced_numbers, relations, rest_by
 from keptqubits.errors import BadNumber, TooMany, Unlike
 from keptqubits.gateworks import GATES, gate_done
-from keptqubits.stringbits import (bit_tuple, bits_of, crossing, held_of, held_product, letters_of, single_bits,
-                                   string_from, string_of)
+from keptqubits.stringbits import (bit_tuple, bits_of, crossing, held_of, held_product, letters_of, many_ys,
+                                   single_bits, string_from, string_of)
 
 # the turns in their order, and what each one makes of the letters I, X, Y and Z
 TURNS = ("", "h", "s", "hs", "sh", "shs")
@@ -199,7 +199,7 @@ def _stored(told):
         bits = 0
         for bit, single in zip(row, single_bits(kept, list(range(kept)))):
             bits = bits ^ (bit * single)
-        found.append((bits, (letters_of(kept, bits).count("Y") + 2 * sign) & 3))
+        found.append((bits, (many_ys(kept, bits) + 2 * sign) & 3))
     return tuple(found)
 
 

@@ -4,9 +4,9 @@ Which signs the strings have is told apart from them by a *state*: one bit for e
 the other sign. So what a line does to strings is reckoned once, and for each state there is little to do.
 """
 
-from keptqubits.bitnumbers import combination, reduced_numbers
+from keptqubits.bitnumbers import combination
 from keptqubits.gateworks import gate_done
-from keptqubits.stringbits import crossing, held_product, letters_of
+from keptqubits.stringbits import crossing, held_product, many_ys
 
 
 def crossed_slots(size, bits, rows):
@@ -67,8 +67,24 @@ def put_in_slot(rows, held):
 
 def reduced_in_slots(size, rows):
     """The reduced table of the strings, all with the sign +: pairs (held, (slots, sign)) as in told_by_slots."""
+    table = []
+    for slot, row in enumerate(rows):
+        if row is not None:
+            entry = _lowered(size, (row, 1 << slot), table)
+            table = [_lowered(size, other, [entry]) for other in table]
+            table.append(entry)
     found = []
-    for bits in reduced_numbers([row[0] for row in rows if row is not None]):
-        held = (bits, letters_of(size, bits).count("Y") % 4)
-        found.append((held, told_by_slots(size, held, rows)))
+    for (bits, power), slots in sorted(table, reverse=True):
+        plain = many_ys(size, bits) & 3
+        found.append(((bits, plain), (slots, int(power != plain))))
     return found
+
+
+def _lowered(size, entry, table):
+    """A pair (held string, slots) times each one of a table that lowers its bits."""
+    held, slots = entry
+    for row, others in table:
+        if (held[0] ^ row[0]) < held[0]:
+            held = held_product(size, held, row)
+            slots = slots ^ others
+    return held, slots

@@ -34,6 +34,11 @@ def second_half(size, bits):
     return bits & ((1 << size) - 1)
 
 
+def many_ys(size, bits):
+    """How many letters with these bits are Y."""
+    return f"{(bits >> size) & bits:b}".count("1")
+
+
 def held_of(string):
     """A string as a held one."""
     # Y is i times X times Z
