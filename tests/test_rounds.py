@@ -493,6 +493,21 @@ class PairsTest(unittest.TestCase):
                 self.assertTrue(self.check(code, code.size, "wait 0\nx 0\nwait 0", t))
         self.assertFalse(self.check(code_of("ZZ"), 2, "wait 0\nwait 1\nmeasure Z0*Z1 to a", 2))
 
+    def test_what_a_table_mends_no_reader_parts(self):
+        # (a) of [89]
+        many = 0
+        for source, code, size, text in (*random_rounds(72, 60), *z_rounds(73, 60)):
+            program, table = Program(size, text), lightest(code)
+            for t in range(2):
+                told = forever(code, program, table, t)
+                if told.__class__ is Forever:
+                    many += 1
+                    self.assertEqual(any_order(code, [program, program], table, t).classes, told.classes)
+                    self.assertLessEqual(set(two_neighbors(code, program, table, t).classes), set(told.classes))
+                    if not program.flagged:
+                        self.assertIs(forever_pairs(code, program, t).__class__, ForeverPairs)
+        self.assertGreater(many, 60)
+
     def test_later_rounds(self):
         # what is not measured is left to the last syndrome; letters of the repeated round add up
         code = code_of("ZZIII IZZII IIZZI IIIZZ")
