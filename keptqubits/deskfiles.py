@@ -61,14 +61,15 @@ def cut_file(text):
     for number, line in enumerate(lines_of_file(text), start=1):
         words = line.split(" ")
         if words[0] == "item":
-            heads.append((number, _read_head(number, words, names)))
+            kind, name, last = _read_head(number, words, names)
+            heads.append((number, kind, name, last))
             bodies.append([])
-            names.append(words[2])
+            names.append(name)
         elif not heads:
             raise BadText(number, 1)
         else:
             bodies[-1].append(line)
-    return [Piece(kind, name, last, body, number) for (number, (kind, name, last)), body in zip(heads, bodies)]
+    return [Piece(kind, name, last, body, number) for (number, kind, name, last), body in zip(heads, bodies)]
 
 
 def read_all(pieces):

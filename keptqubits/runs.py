@@ -77,10 +77,11 @@ def _ends(program, size, rows):
     found = {}
     for node, state, halves in walk(track, 0, []):
         if node not in reduced:
-            reduced[node] = [(letters_of(size, held[0]), told) for held, told in reduced_in_slots(size, node.rows)]
+            reduced[node] = [(letters_of(size, held[0]), slots, sign)
+                             for held, slots, sign in reduced_in_slots(size, node.rows)]
         signs = state >> track.many
-        letters = tuple([row for row, _ in reduced[node]])
-        turned = tuple([parity(signs & slots) ^ sign for _, (slots, sign) in reduced[node]])
+        letters = tuple([row for row, _, _ in reduced[node]])
+        turned = tuple([parity(signs & slots) ^ sign for _, slots, sign in reduced[node]])
         found[state ^ (signs << track.many)] = (halves, letters, turned)
     return found
 

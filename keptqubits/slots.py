@@ -66,7 +66,7 @@ def put_in_slot(rows, held):
 
 
 def reduced_in_slots(size, rows):
-    """The reduced table of the strings, all with the sign +: pairs (held, (slots, sign)) as in told_by_slots."""
+    """The reduced table of the strings, all with the sign +: triples (held, slots, sign), see told_by_slots."""
     table = []
     for slot, row in enumerate(rows):
         if row is not None:
@@ -76,7 +76,7 @@ def reduced_in_slots(size, rows):
     found = []
     for (bits, power), slots in sorted(table, reverse=True):
         plain = many_ys(size, bits) & 3
-        found.append(((bits, plain), (slots, int(power != plain))))
+        found.append(((bits, plain), slots, int(power != plain)))
     return found
 
 

@@ -185,9 +185,9 @@ class Track:
     def _ended(self, rows):
         """Bring the strings to one form, so that what was run behind a flag, and what was not, may meet again."""
         reduced = reduced_in_slots(self.size, rows)
-        move = Move([held for held, _ in reduced])
+        move = Move([held for held, _, _ in reduced])
         move.remade = [(self._slots(1 << slot), self._slots(slots), sign)
-                       for slot, (_, (slots, sign)) in enumerate(reduced)]
+                       for slot, (_, slots, sign) in enumerate(reduced)]
         move.stays = self._slots(1) - 1
         return move
 

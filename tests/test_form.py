@@ -169,6 +169,34 @@ class FormTest(unittest.TestCase):
                 if isinstance(node.iter, ast.Call) and isinstance(node.iter.func, ast.Name):
                     self.assertNotIn(node.iter.func.id, ("set", "frozenset"))
 
+    def test_no_name_is_a_method_and_an_attribute(self):
+        methods, attributes = set(), set()
+        for path in FILES:
+            for node in nodes_of(path, ast.ClassDef):
+                methods |= {row.name for row in node.body if isinstance(row, ast.FunctionDef)}
+            attributes |= {node.attr for node in nodes_of(path, ast.Attribute) if isinstance(node.ctx, ast.Store)}
+        self.assertEqual(methods & attributes, set())
+        for path in FILES:
+            read = {node.attr for node in nodes_of(path, ast.Attribute)}
+            self.assertLessEqual(read, methods | attributes | BUILTIN_METHODS, path.name)
+
+    def test_no_local_name_is_that_of_an_import_or_a_class(self):
+        for path in FILES:
+            taken = {alias.asname or alias.name for node in nodes_of(path, ast.ImportFrom) for alias in node.names}
+            taken |= {node.name for node in nodes_of(path, ast.ClassDef)}
+            for function in nodes_of(path, ast.FunctionDef):
+                local = {given.arg for given in function.args.args}
+                local |= {node.id for node in ast.walk(function)
+                          if isinstance(node, ast.Name) and isinstance(node.ctx, ast.Store)}
+                self.assertEqual(local & taken, set(), f"{path.name}: {function.name}")
+
+    def test_stars_in_calls(self):
+        for path in FILES:
+            for node in nodes_of(path, ast.Call):
+                for given in node.args:
+                    if isinstance(given, ast.Starred):
+                        self.assertIsInstance(given.value, (ast.Name, ast.Attribute), f"{path.name}:{node.lineno}")
+
     def test_names(self):
         for path in FILES:
             for name, bound in bound_names(path):
