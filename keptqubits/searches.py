@@ -3,8 +3,9 @@
 Behind each line a fault changes a state by one of the sums of some changes. So states that differ by such a sum are
 looked at together, and only the first one of them with the fewest faults is changed.
 
-How a state was met is told by a *link*, a tuple (earlier link, node, change, state); for the state with which a round
-begins the node is None, and the change is whatever was told with it.
+How a state was met is told by a *link*, a tuple (earlier link, node, change, state) for the last line that told a bit
+or had a fault behind it; for the state with which a round begins the node is None, and the change is whatever was told
+with it.
 """
 
 from keptqubits.bitnumbers import combination, rest_by
@@ -40,6 +41,8 @@ class Search:
         for line in range(self.track.length):
             for node, met in list(waiting[line].items()):
                 self._pass(waiting, node, met)
+            # what is behind goes on by itself
+            waiting[line] = {}
         ends = waiting[self.track.length]
         return [(node, state, cost, link) for node, met in ends.items() for state, (cost, link) in met.items()]
 
@@ -59,7 +62,9 @@ class Search:
         for state, (cost, link) in met.items():
             for out in self.outs(move, state):
                 if self.lets(move, out):
-                    self._meet(waiting, next_of(move, out), out, (cost, (link, node, 0, out)))
+                    # a line that tells no bit, and has no fault, needs no link
+                    told = (cost, (link, node, 0, out) if move.told else link)
+                    self._meet(waiting, next_of(move, out), out, told)
                 if cost < self.most and effects.table:
                     rest = rest_by(out, effects.table)
                     if rest not in fewest or cost < fewest[rest][0]:
